@@ -1,0 +1,28 @@
+// Package redex: a small lazy language, its templates, and the machine that runs them: see DOC.md.
+package redex
+
+import (
+	"redex/api"
+	"redex/source"
+)
+
+// Check tells the first fault of a source text (P3).
+func Check(src string) (int, api.Errno) { return source.Check(src) }
+
+// Show writes a source text as it is always written (P4).
+func Show(src string) (string, api.Errno) { return source.Show(src) }
+
+// Compile turns a source text into a code text (P5).
+func Compile(src string) (string, api.Errno) { return "", api.OK }
+
+// Read reads a code text (P6).
+func Read(code string) (api.Code, int, api.Errno) { return api.Code{}, 0, api.OK }
+
+// Write writes a code text (P6).
+func Write(c api.Code) (string, api.Errno) { return "", api.OK }
+
+// Run runs a code text (P8 to P10).
+func Run(code string, budget int, heap int) (api.Result, api.Errno) { return api.Result{}, api.OK }
+
+// Eval runs a source text (P11).
+func Eval(src string, budget int) (api.Result, api.Errno) { return api.Result{}, api.OK }
