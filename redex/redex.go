@@ -3,6 +3,7 @@ package redex
 
 import (
 	"redex/api"
+	"redex/codetext"
 	"redex/source"
 )
 
@@ -13,13 +14,13 @@ func Check(src string) (int, api.Errno) { return source.Check(src) }
 func Show(src string) (string, api.Errno) { return source.Show(src) }
 
 // Compile turns a source text into a code text (P5).
-func Compile(src string) (string, api.Errno) { return "", api.OK }
+func Compile(src string) (string, api.Errno) { return source.Compile(src) }
 
 // Read reads a code text (P6).
-func Read(code string) (api.Code, int, api.Errno) { return api.Code{}, 0, api.OK }
+func Read(code string) (api.Code, int, api.Errno) { return codetext.Read(code) }
 
 // Write writes a code text (P6).
-func Write(c api.Code) (string, api.Errno) { return "", api.OK }
+func Write(c api.Code) (string, api.Errno) { return codetext.Write(c) }
 
 // Run runs a code text (P8 to P10).
 func Run(code string, budget int, heap int) (api.Result, api.Errno) { return api.Result{}, api.OK }

@@ -37,11 +37,11 @@ func cutDefinitions(tokens []token) []definition {
 // checkTwice tells the first name that is given a second time.
 func checkTwice(list []definition) (int, api.Errno) {
 	for i, d := range list {
-		if hasFunction(list[:i], d.name.text) {
+		if findFunction(list[:i], d.name.text) >= 0 {
 			return d.name.at, api.ErrTwice
 		}
 		for j, p := range d.parameters {
-			if hasParameter(d.parameters[:j], p.text) {
+			if findParameter(d.parameters[:j], p.text) >= 0 {
 				return p.at, api.ErrTwice
 			}
 		}
@@ -53,10 +53,10 @@ func checkTwice(list []definition) (int, api.Errno) {
 func checkNames(list []definition) (int, api.Errno) {
 	for _, d := range list {
 		for _, t := range d.body {
-			if t.kind != nameToken || hasParameter(d.parameters, t.text) {
+			if t.kind != nameToken || findParameter(d.parameters, t.text) >= 0 {
 				continue
 			}
-			if !hasFunction(list, t.text) {
+			if findFunction(list, t.text) < 0 {
 				return t.at, api.ErrName
 			}
 		}
@@ -66,28 +66,29 @@ func checkNames(list []definition) (int, api.Errno) {
 
 // checkMain tells whether there is a main without parameters.
 func checkMain(list []definition) api.Errno {
-	for _, d := range list {
-		if d.name.text == "main" && len(d.parameters) == 0 {
-			return api.OK
-		}
+	main := findFunction(list, "main")
+	if main < 0 || len(list[main].parameters) > 0 {
+		return api.ErrMain
 	}
-	return api.ErrMain
+	return api.OK
 }
 
-func hasFunction(list []definition, name string) bool {
-	for _, d := range list {
+// findFunction: the number of the function with this name, -1 if there is none.
+func findFunction(list []definition, name string) int {
+	for i, d := range list {
 		if d.name.text == name {
-			return true
+			return i
 		}
 	}
-	return false
+	return -1
 }
 
-func hasParameter(parameters []token, name string) bool {
-	for _, p := range parameters {
+// findParameter: the number of the parameter with this name, -1 if there is none.
+func findParameter(parameters []token, name string) int {
+	for i, p := range parameters {
 		if p.text == name {
-			return true
+			return i
 		}
 	}
-	return false
+	return -1
 }
