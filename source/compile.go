@@ -30,12 +30,14 @@ func cutLines(list []definition, d definition) [][]api.Atom {
 		switch t.kind {
 		case openToken:
 			// The line that begins now has the number len(l.lines), and inner application i is line i + 1.
-			l.put(api.Atom{Kind: api.Node, N: len(l.lines) - 1})
+			inner := len(l.lines) - 1
+			l.put(api.Atom{Kind: api.Node, N: inner})
 			l.begin()
 		case closeToken:
 			l.end()
 		default:
-			l.put(simpleAtom(list, d, t))
+			a := simpleAtom(list, d, t)
+			l.put(a)
 		}
 	}
 	return l.lines
