@@ -4,6 +4,7 @@ package redex
 import (
 	"redex/api"
 	"redex/codetext"
+	"redex/machine"
 	"redex/source"
 )
 
@@ -23,7 +24,15 @@ func Read(code string) (api.Code, int, api.Errno) { return codetext.Read(code) }
 func Write(c api.Code) (string, api.Errno) { return codetext.Write(c) }
 
 // Run runs a code text (P8 to P10).
-func Run(code string, budget int, heap int) (api.Result, api.Errno) { return api.Result{}, api.OK }
+func Run(code string, budget int, heap int) (api.Result, api.Errno) {
+	return machine.Run(code, budget, heap)
+}
 
 // Eval runs a source text (P11).
-func Eval(src string, budget int) (api.Result, api.Errno) { return api.Result{}, api.OK }
+func Eval(src string, budget int) (api.Result, api.Errno) {
+	text, e := source.Compile(src)
+	if e != api.OK {
+		return api.Result{}, e
+	}
+	return machine.Run(text, budget, api.MaxHeap)
+}

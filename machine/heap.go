@@ -1,0 +1,73 @@
+package machine
+
+import "redex/api"
+
+// node: an application that is not worked out yet or, if it is done, its value.
+type node struct {
+	items []item
+	done  bool
+}
+
+// enter takes the pointer off that is on top, and goes on with what its node holds.
+func (m *machine) enter() {
+	pointer := m.pop()
+	at := pointer.n
+	if at < 0 || at >= len(m.nodes) {
+		return
+	}
+	if !m.nodes[at].done {
+		m.wait(frame{kind: updateFrame, node: at})
+	}
+	m.put(m.nodes[at].items)
+}
+
+// update lays the value that is on top into the node that waits for it, so that it is worked out once.
+func (m *machine) update(f frame) {
+	value := m.active()
+	m.dropFrame()
+	if f.node >= 0 && f.node < len(m.nodes) {
+		m.nodes[f.node] = node{items: value, done: true}
+	}
+}
+
+func (m *machine) template(number int) api.Template {
+	if number < 0 || number >= len(m.funs) {
+		return api.Template{}
+	}
+	return m.funs[number]
+}
+
+// call makes the step of a function that has its arguments.
+func (m *machine) call(t api.Template) {
+	due := m.countStep()
+	if !due {
+		return
+	}
+	m.pop()
+	arguments := m.popMany(t.Arity)
+	first := len(m.nodes)
+	for i, line := range t.Lines {
+		items := instantiate(line, arguments, first)
+		if i == 0 {
+			m.put(items)
+		} else {
+			m.nodes = append(m.nodes, node{items: items})
+		}
+	}
+}
+
+// instantiate: the items of a line; first is the place of the node of inner application 0.
+func instantiate(line []api.Atom, arguments []item, first int) []item {
+	var items []item
+	for _, a := range line {
+		x := item{kind: a.Kind, n: a.N}
+		switch {
+		case a.Kind == api.Node:
+			x.n = first + a.N
+		case a.Kind == api.Arg && a.N >= 0 && a.N < len(arguments):
+			x = arguments[a.N]
+		}
+		items = append(items, x)
+	}
+	return items
+}
