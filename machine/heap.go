@@ -25,8 +25,13 @@ func (m *machine) enter() {
 func (m *machine) update(f frame) {
 	value := m.active()
 	m.dropFrame()
-	if f.node >= 0 && f.node < len(m.nodes) {
-		m.nodes[f.node] = node{items: value, done: true}
+	m.lay(f.node, node{items: value, done: true})
+}
+
+// lay gives a node's place what is to be there from now on.
+func (m *machine) lay(at int, n node) {
+	if at >= 0 && at < len(m.nodes) {
+		m.nodes[at] = n
 	}
 }
 
@@ -39,31 +44,38 @@ func (m *machine) template(number int) api.Template {
 
 // call makes the step of a function that has its arguments.
 func (m *machine) call(t api.Template) {
-	due := m.countStep()
-	if !due {
+	may := m.mayStep()
+	if !may {
 		return
 	}
+	inner := len(t.Lines) - 1
+	fits := m.makeRoom(inner)
+	if !fits {
+		m.outcome = api.Full
+		return
+	}
+	m.steps++
 	m.pop()
 	arguments := m.popMany(t.Arity)
-	first := len(m.nodes)
+	places := m.takePlaces(inner)
 	for i, line := range t.Lines {
-		items := instantiate(line, arguments, first)
+		items := instantiate(line, arguments, places)
 		if i == 0 {
 			m.put(items)
-		} else {
-			m.nodes = append(m.nodes, node{items: items})
+		} else if i <= len(places) {
+			m.lay(places[i-1], node{items: items})
 		}
 	}
 }
 
-// instantiate: the items of a line; first is the place of the node of inner application 0.
-func instantiate(line []api.Atom, arguments []item, first int) []item {
+// instantiate: the items of a line; the new node of inner application i is at places[i].
+func instantiate(line []api.Atom, arguments []item, places []int) []item {
 	var items []item
 	for _, a := range line {
 		x := item{kind: a.Kind, n: a.N}
 		switch {
-		case a.Kind == api.Node:
-			x.n = first + a.N
+		case a.Kind == api.Node && a.N >= 0 && a.N < len(places):
+			x.n = places[a.N]
 		case a.Kind == api.Arg && a.N >= 0 && a.N < len(arguments):
 			x = arguments[a.N]
 		}

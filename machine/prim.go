@@ -29,10 +29,11 @@ func (m *machine) askSecond(f frame, number int) {
 
 // compute makes the step of the primitive whose second argument has come to the number.
 func (m *machine) compute(f frame, number int) {
-	due := m.countStep()
-	if !due {
+	may := m.mayStep()
+	if !may {
 		return
 	}
+	m.steps++
 	m.dropFrame()
 	m.pop()
 	switch f.prim {

@@ -6,7 +6,7 @@ import (
 	"redex/codetext"
 )
 
-// Run: what the code of a code text comes to (P8, P9).
+// Run: what the code of a code text comes to (P8 to P10).
 func Run(text string, budget int, heap int) (api.Result, api.Errno) {
 	c, _, e := codetext.Read(text)
 	if e != api.OK {
@@ -18,7 +18,7 @@ func Run(text string, budget int, heap int) (api.Result, api.Errno) {
 	if heap < 0 || heap > api.MaxHeap {
 		return api.Result{}, api.ErrArg
 	}
-	m := machine{funs: c.Funs, budget: budget}
+	m := machine{funs: c.Funs, budget: budget, heap: heap}
 	m.push(item{kind: api.Fun, n: c.Main})
 	// This ends, though not every move is a step. A new node points to what was there before it and
 	// to later lines of its template, so no node is reached from itself; each is entered at most
@@ -33,9 +33,11 @@ func Run(text string, budget int, heap int) (api.Result, api.Errno) {
 type machine struct {
 	funs    []api.Template
 	budget  int
+	heap    int // how many nodes there is room for
 	stack   []item
 	frames  []frame
 	nodes   []node
+	free    []int // places of nodes that are no longer needed
 	steps   int
 	outcome int
 	value   int
@@ -69,13 +71,12 @@ func (m *machine) move() {
 	}
 }
 
-// countStep counts the step that is due, or tells that the budget is spent.
-func (m *machine) countStep() bool {
+// mayStep: the budget allows one more step; if not, it is spent, and the run ends.
+func (m *machine) mayStep() bool {
 	if m.steps >= m.budget {
 		m.outcome = api.Spent
 		return false
 	}
-	m.steps++
 	return true
 }
 

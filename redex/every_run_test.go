@@ -25,6 +25,7 @@ type reducer struct {
 	c      api.Code
 	budget int
 	result api.Result
+	ledger ledger
 }
 
 // ended is thrown when there is an outcome.
@@ -49,7 +50,9 @@ func (r *reducer) value(parts []part) []part {
 		switch {
 		case head.thunk != nil:
 			if !head.thunk.done {
+				r.ledger.keep(parts)
 				*head.thunk = thunk{r.value(head.thunk.parts), true}
+				r.ledger.drop()
 			}
 			parts = append(append([]part{}, head.thunk.parts...), rest...)
 		case head.atom.Kind == api.Num:
@@ -62,6 +65,7 @@ func (r *reducer) value(parts []part) []part {
 			if len(rest) < f.Arity {
 				return parts
 			}
+			r.ledger.need(r.result.Steps, parts, len(f.Lines)-1)
 			r.step()
 			parts = append(body(f, rest), rest[f.Arity:]...)
 		default:
@@ -69,8 +73,12 @@ func (r *reducer) value(parts []part) []part {
 			if len(rest) < []int{2, 2, 2, 4, 4}[p] {
 				return parts
 			}
+			r.ledger.keep(rest[1:])
 			a := r.number(rest[0])
+			r.ledger.drop()
+			r.ledger.keep(rest[2:])
 			b := r.number(rest[1])
+			r.ledger.drop()
 			r.step()
 			parts = r.apply(p, a, b, rest[2:])
 		}
@@ -124,14 +132,18 @@ func body(f api.Template, arguments []part) []part {
 }
 
 // reduce: what a run of good code comes to.
-func reduce(c api.Code, budget int) (result api.Result) {
+func reduce(c api.Code, budget int) api.Result {
 	r := reducer{c: c, budget: budget}
+	return r.run()
+}
+
+func (r *reducer) run() (result api.Result) {
 	defer func() {
 		if _, ok := recover().(ended); ok {
 			result = r.result
 		}
 	}()
-	v := r.value([]part{{atom: fun(c.Main)}})
+	v := r.value([]part{{atom: fun(r.c.Main)}})
 	if v[0].atom.Kind == api.Num {
 		return api.Result{Outcome: api.Number, Value: v[0].atom.N, Steps: r.result.Steps}
 	}
@@ -339,8 +351,14 @@ func runHolds(t *testing.T, text string, budget, heap int) {
 	if r.Outcome < api.Number || r.Outcome > api.Full || r.Outcome != api.Number && r.Value != 0 || r.Steps < 0 || r.Steps > budget {
 		t.Fatalf("P9: Run(%q, %d, %d) = %+v", text, budget, heap, r)
 	}
-	if heap >= 12*budget && r != reduce(c, budget) {
-		t.Fatalf("P8: Run(%q, %d, %d) = %+v, want %+v", text, budget, heap, r, reduce(c, budget))
+	wanted := r
+	if budget <= 100 {
+		wanted = account(c, budget).in(heap)
+	} else if heap >= 12*budget {
+		wanted = reduce(c, budget)
+	}
+	if r != wanted {
+		t.Fatalf("P8, P10: Run(%q, %d, %d) = %+v, want %+v", text, budget, heap, r, wanted)
 	}
 }
 
@@ -355,6 +373,7 @@ func TestP1EveryRun(t *testing.T) {
 		for _, changed := range []string{text, changeCode(&d, text), changeLines(&d, text), text[:d.roll(len(text))]} {
 			runHolds(t, changed, numbers[d.roll(len(numbers))], numbers[d.roll(len(numbers))])
 			runHolds(t, changed, d.roll(100), 24000)
+			runHolds(t, changed, d.roll(100), d.roll(30))
 		}
 	}
 	for _, x := range goodCode {

@@ -50,11 +50,7 @@ func evals(t *testing.T, src string, want api.Result) {
 		evalsTo(t, src, budget, wantWith(want, budget))
 	}
 	evalsTo(t, src, api.MaxBudget, want)
-	text, e := redex.Compile(src)
-	if e != api.OK {
-		t.Fatalf("Compile(%q) = %d", src, e)
-	}
-	runs(t, text, want)
+	runs(t, compiled(t, src), want)
 }
 
 // wantWith: what is wanted with this budget, if this is wanted with one that suffices.
